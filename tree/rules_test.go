@@ -89,6 +89,23 @@ func TestMuch(t *testing.T) {
 	}
 }
 
+// P1: a chain may be longer than calls can be deep.
+func TestChain(t *testing.T) {
+	const n = 1 << 21
+	x := num(1)
+	for range n {
+		x = api.Expr{Kind: api.ExSub, Kids: []api.Expr{x}}
+	}
+	if got := tree.Deep(x); got != n+1 {
+		t.Error(got)
+	}
+	for _, q := range with(x) {
+		if tree.Right(q) || tree.Print(q) != "" {
+			t.Error("a chain is right")
+		}
+	}
+}
+
 // P1: a row may be the Kids of many, so that by each anew there would be no end.
 func TestShared(t *testing.T) {
 	x := num(1)
